@@ -1,0 +1,1 @@
+"""Heaptrees: trees whose children stand in no order."""

@@ -1,0 +1,115 @@
+"""Judges: what is one, and what they tell of trees."""
+
+from heaptrees.errors import NoLetter
+from heaptrees.kinds import is_letter, is_whole_within
+from heaptrees.trees import parts_upward
+
+MOST_STATES = 6
+MOST_FEW = 4
+MOST_TURN = 4
+MOST_TUPLES = 600
+
+
+def is_judge(thing):
+    """Whether the thing, of any kind, is a judge."""
+    if not isinstance(thing, tuple) or len(thing) != 6:
+        return False
+    letters, states, few, turn, table, good = thing
+    if not are_letters(letters) or not is_whole_within(states, 1, MOST_STATES):
+        return False
+    if not is_whole_within(few, 0, MOST_FEW) or not is_whole_within(turn, 1, MOST_TURN):
+        return False
+    return _is_table(table, letters, states, few + turn) and are_rising_states(good, states)
+
+
+def are_letters(thing):
+    """Whether the thing is a text of unlike small letters, one at least, rising."""
+    if not isinstance(thing, str) or not thing:
+        return False
+    return all([is_letter(sign) for sign in thing]) and _rises(thing)
+
+
+def are_rising_states(thing, states):
+    """Whether the thing is a list of states, rising, each once, perhaps none."""
+    if not isinstance(thing, list):
+        return False
+    return all([is_whole_within(state, 0, states - 1) for state in thing]) and _rises(thing)
+
+
+def _rises(row):
+    """Whether each thing of the row is greater than the one ahead of it."""
+    return all([low < high for low, high in zip(row, row[1:])])
+
+
+def tuples_due(letters, states, classes):
+    """How many tuples the table of a judge has, classes being how many classes there are."""
+    many = len(letters)
+    for _ in range(states):
+        many = many * classes
+    return many
+
+
+def _is_table(thing, letters, states, classes):
+    """Whether the thing is a table that has just the tuples due, and they are not too many."""
+    due = tuples_due(letters, states, classes)
+    if not isinstance(thing, dict) or len(thing) != due or due > MOST_TUPLES:
+        return False
+    # Unlike keys that are each one of those due, and as many as are due, are all of them.
+    for key, state in thing.items():
+        if not _is_key(key, letters, states, classes) or not is_whole_within(state, 0, states - 1):
+            return False
+    return True
+
+
+def _is_key(thing, letters, states, classes):
+    """Whether the thing is a tuple of a letter and as many classes as there are states."""
+    if not isinstance(thing, tuple) or len(thing) != 2:
+        return False
+    letter, row = thing
+    if not is_letter(letter) or letter not in letters:
+        return False
+    if not isinstance(row, tuple) or len(row) != states:
+        return False
+    return all([is_whole_within(number, 0, classes - 1) for number in row])
+
+
+def class_of(number, few, turn):
+    """The class of a number from 0 on: itself where it is low, else its place in the turn."""
+    if number < few + turn:
+        return number
+    return few + (number - few) % turn
+
+
+def state_of_part(judge, letter, states_below):
+    """The state of a part with this letter, from the list of its children's states."""
+    few = judge[2]
+    turn = judge[3]
+    row = [class_of(states_below.count(state), few, turn) for state in range(judge[1])]
+    return judge[4][(letter, tuple(row))]
+
+
+def part_states(judge, tree):
+    """The states of all parts, each behind those of its children, these as they stand."""
+    parts = parts_upward(tree)
+    for letter, _ in parts:
+        if letter not in judge[0]:
+            raise NoLetter("the tree has a letter that the judge has not")
+    told = []
+    waiting = []
+    for letter, children in parts:
+        first = len(waiting) - len(children)
+        state = state_of_part(judge, letter, waiting[first:])
+        del waiting[first:]
+        waiting.append(state)
+        told.append(state)
+    return told
+
+
+def state_of(judge, tree):
+    """The state of the tree."""
+    return part_states(judge, tree)[-1]
+
+
+def lets_by(judge, tree):
+    """Whether the judge lets the tree by."""
+    return state_of(judge, tree) in judge[5]

@@ -1,0 +1,105 @@
+"""What several test files use: trees to ask about, and what is none."""
+
+from itertools import product
+
+
+def leaf(letter):
+    return (letter, [])
+
+
+def row_of(letter, many):
+    """A tree of so many parts, each the only child of the one above."""
+    tree = (letter, [])
+    for _ in range(many - 1):
+        tree = (letter, [tree])
+    return tree
+
+
+def nested(thing, depth, wrap):
+    for _ in range(depth):
+        thing = wrap(thing)
+    return thing
+
+
+def ordered_trees(size, letters):
+    """Every tree of the size, each order of children for itself."""
+    return [
+        (letter, children)
+        for letter in letters
+        for children in ordered_forests(size - 1, letters)
+    ]
+
+
+def ordered_forests(size, letters):
+    if size == 0:
+        return [[]]
+    return [
+        [first, *rest]
+        for part in range(1, size + 1)
+        for first, rest in product(ordered_trees(part, letters), ordered_forests(size - part, letters))
+    ]
+
+
+def trees_up_to(size, letters):
+    return [tree for many in range(1, size + 1) for tree in ordered_trees(many, letters)]
+
+
+def holders_within(thing):
+    """Every list and dict within the thing, once for each place where it stands."""
+    found = []
+    waiting = [thing]
+    while waiting:
+        one = waiting.pop()
+        if isinstance(one, (list, dict)):
+            found.append(one)
+        if isinstance(one, dict):
+            waiting.extend(one.keys())
+            waiting.extend(one.values())
+        elif isinstance(one, (list, tuple)):
+            waiting.extend(one)
+    return found
+
+
+def all_unlike(*things):
+    """Whether no list or dict stands twice within the things."""
+    found = [one for thing in things for one in holders_within(thing)]
+    return len({id(one) for one in found}) == len(found)
+
+
+def share_any(told, given):
+    """Whether a list or dict within what was told is one within what was handed in."""
+    ids = {id(one) for one in holders_within(given)}
+    return any(id(one) in ids for one in holders_within(told))
+
+
+# Things of other kinds that are no tree, no letter and no judge.
+OTHER_KINDS = [
+    None, True, False, 0, 1, -1, 10 ** 29, "", "a", "ab", "a(b)", b"", b"a", [], [[]], ["a", []],
+    (), ("a",), ([],), ("a", [], []), {}, {"a": []}, {("a", ()): 0}, set(), object(), int, len,
+    range(2), nested([], 100, lambda x: [x]), nested((), 100, lambda x: (x,)),
+    nested({}, 100, lambda x: {0: x}),
+]
+
+# Trees with one place otherwise, at the top; each of them is no tree within another one, too.
+BAD_PARTS = [
+    ["a", []], ("a",), ("a", [], None), ([], "a"), ("a", ()), ("a", (("a", []),)), ("a", None),
+    ("a", {}), ("a", ""), ("a", "b"), ("a", 0), ("a", True), ("a", b""), ("a", ("b", [])),
+    ("", []), ("ab", []), ("A", []), ("Z", []), ("`", []), ("{", []), ("0", []), (" ", []),
+    ("a ", []), ("a\n", []), ("\n", []), ("\u00e4", []), ("\u0430", []), ("\uff41", []),
+    (None, []), (True, []), (0, []), (97, []), (b"a", []), (["a"], []), (("a",), []), ({}, []),
+]
+
+BAD_CHILDREN = [
+    None, True, False, 0, 1, 10 ** 29, "", "a", b"a", [], ["a", []], (), ("a",), {}, [("a", [])],
+]
+
+NO_TREES = [
+    *OTHER_KINDS,
+    *BAD_PARTS,
+    *[("a", [bad]) for bad in [*BAD_CHILDREN, *BAD_PARTS]],
+    *[("a", [("b", []), ("c", [("d", []), bad]), ("e", [])]) for bad in [*BAD_CHILDREN, *BAD_PARTS]],
+    *[("a", [bad, ("b", [])]) for bad in BAD_CHILDREN],
+    nested(("a", ()), 40, lambda x: ("a", [x])),
+    nested(None, 40, lambda x: ("a", [x, ("b", [])])),
+    nested(["a", []], 40, lambda x: ("a", [("b", []), x])),
+]
