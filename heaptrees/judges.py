@@ -1,6 +1,6 @@
 """Judges: what is one, and what they tell of trees."""
 
-from heaptrees.errors import NoLetter
+from heaptrees.errors import NoLetter, TooMany
 from heaptrees.kinds import is_letter, is_whole_within
 from heaptrees.trees import parts_upward
 
@@ -80,29 +80,56 @@ def class_of(number, few, turn):
     return few + (number - few) % turn
 
 
-def state_of_part(judge, letter, states_below):
-    """The state of a part with this letter, from the list of its children's states."""
-    few = judge[2]
-    turn = judge[3]
-    row = [class_of(states_below.count(state), few, turn) for state in range(judge[1])]
+def class_rows(states, classes):
+    """All tuples of as many classes as there are states, rising."""
+    rows = [()]
+    for _ in range(states):
+        rows = [(*row, number) for row in rows for number in range(classes)]
+    return rows
+
+
+def table_made(letters, states, few, turn, state_at):
+    """A table that tells state_at(letter, classes); TooMany where it or the turn is too great."""
+    if turn > MOST_TURN:
+        raise TooMany("the judge would have a turn of more than four")
+    if tuples_due(letters, states, few + turn) > MOST_TUPLES:
+        raise TooMany("the judge's table would have more than six hundred tuples")
+    rows = class_rows(states, few + turn)
+    return {(letter, row): state_at(letter, row) for letter in letters for row in rows}
+
+
+def state_by_numbers(judge, letter, numbers):
+    """The state of a part with this letter, from how many of its children have each state."""
+    row = [class_of(number, judge[2], judge[3]) for number in numbers]
     return judge[4][(letter, tuple(row))]
 
 
-def part_states(judge, tree):
-    """The states of all parts, each behind those of its children, these as they stand."""
+def states_upward(tree, letters, states, state_at):
+    """The states of all parts, each behind those of its children, these as they stand.
+
+    A part's is state_at(letter, how many of its children have each state); or NoTree, NoLetter.
+    """
     parts = parts_upward(tree)
     for letter, _ in parts:
-        if letter not in judge[0]:
-            raise NoLetter("the tree has a letter that the judge has not")
+        if letter not in letters:
+            raise NoLetter("the tree has a letter of which no state is told")
     told = []
     waiting = []
     for letter, children in parts:
         first = len(waiting) - len(children)
-        state = state_of_part(judge, letter, waiting[first:])
+        below = waiting[first:]
         del waiting[first:]
+        state = state_at(letter, [below.count(one) for one in range(states)])
         waiting.append(state)
         told.append(state)
     return told
+
+
+def part_states(judge, tree):
+    """The states of all parts, each behind those of its children, these as they stand."""
+    return states_upward(
+        tree, judge[0], judge[1], lambda letter, numbers: state_by_numbers(judge, letter, numbers)
+    )
 
 
 def state_of(judge, tree):

@@ -1,6 +1,7 @@
-"""What several test files use: trees to ask about, and what is none."""
+"""What several test files use: trees and judges to ask about, and what is none."""
 
 from itertools import product
+from random import Random
 
 
 def leaf(letter):
@@ -42,6 +43,64 @@ def ordered_forests(size, letters):
 
 def trees_up_to(size, letters):
     return [tree for many in range(1, size + 1) for tree in ordered_trees(many, letters)]
+
+
+def told_trees(size, letters):
+    """Every tree of the size, once for each of those that are the same but for order."""
+    return list({written(tree): tree for tree in ordered_trees(size, letters)}.values())
+
+
+def wide_trees(letters):
+    """Trees with up to sixty parts, most of them leaves side by side."""
+    few = [*range(10), 19, 26]
+    return [
+        (letter, [*[leaf(letters[0])] * many, *[leaf(letters[-1])] * (many // 2), *[row_of(letters[-1], 2)] * less])
+        for letter in letters
+        for many in few
+        for less in (0, 1, 3, 8)
+    ]
+
+
+def written(tree):
+    """The writing of the tree's told form, word by word."""
+    rows = sorted(written(child) for child in tree[1])
+    return tree[0] + (f"({''.join(rows)})" if rows else "")
+
+
+def judge_by(letters, states, few, turn, state, good):
+    """A judge whose table tells state(letter, classes)."""
+    table = {
+        (letter, classes): state(letter, classes)
+        for letter in letters
+        for classes in product(range(few + turn), repeat=states)
+    }
+    return (letters, states, few, turn, table, good)
+
+
+def chance_judge(seed, letters, states, few, turn):
+    """A judge with any table and good states, the same for each seed."""
+    chance = Random(seed)
+    good = [state for state in range(states) if chance.randrange(2)]
+    return judge_by(letters, states, few, turn, lambda letter, row: chance.randrange(states), good)
+
+
+def changed(row, place, thing):
+    """The tuple with the thing at the place."""
+    return (*row[:place], thing, *row[place + 1:])
+
+
+def class_by_words(number, few, turn):
+    while number >= few + turn:
+        number -= turn
+    return number
+
+
+def state_by_words(judge, tree):
+    """[9] word by word."""
+    below = [state_by_words(judge, child) for child in tree[1]]
+    letters, states, few, turn, table, good = judge
+    row = tuple(class_by_words(below.count(state), few, turn) for state in range(states))
+    return table[tree[0], row]
 
 
 def holders_within(thing):

@@ -19,6 +19,16 @@ INTERFACE = {
         "is_judge": ["thing"], "class_of": ["number", "few", "turn"], "state_of": ["judge", "tree"],
         "lets_by": ["judge", "tree"], "part_states": ["judge", "tree"],
     },
+    "sums": {
+        "is_condition": ["thing", "s"], "condition_holds": ["condition", "numbers"],
+        "state_by_rules": ["rules", "tree"], "rules_let_by": ["rules", "tree"],
+        "judge_made": ["rules"],
+    },
+    "joining": {"turned_judge": ["judge"], "judges_joined": ["word", "one", "other"]},
+    "coming": {
+        "states_that_come": ["judge"], "least_trees": ["judge"], "none_paper": ["judge"],
+        "none_shows": ["judge", "paper"],
+    },
 }
 
 LIBRARY = {"heapq", "math", "itertools", "collections"}

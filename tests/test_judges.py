@@ -5,21 +5,12 @@ import unittest
 from itertools import permutations, product
 
 from helpers import (
-    NO_TREES, OTHER_KINDS, all_unlike, leaf, nested, row_of, share_any, trees_up_to,
+    NO_TREES, OTHER_KINDS, all_unlike, changed, class_by_words, judge_by, leaf, nested, row_of,
+    share_any, state_by_words, trees_up_to,
 )
 from heaptrees.errors import HeapError, NoLetter, NoTree
 from heaptrees.judges import class_of, is_judge, lets_by, part_states, state_of
 from heaptrees.trees import told_form
-
-
-def judge_by(letters, states, few, turn, state, good):
-    """A judge whose table tells state(letter, classes)."""
-    table = {
-        (letter, classes): state(letter, classes)
-        for letter in letters
-        for classes in product(range(few + turn), repeat=states)
-    }
-    return (letters, states, few, turn, table, good)
 
 
 # State 1 is an odd size, 0 an even one.
@@ -53,10 +44,6 @@ JUDGES = [
 ]
 
 
-def changed(judge, place, thing):
-    return (*judge[:place], thing, *judge[place + 1:])
-
-
 def with_table(judge, *rows):
     """The judge with a table in which the rows (old key, new key, state) stand for the old keys."""
     table = dict(judge[4])
@@ -64,20 +51,6 @@ def with_table(judge, *rows):
         table.pop(old)
         table[new] = state
     return changed(judge, 4, table)
-
-
-def class_by_words(number, few, turn):
-    while number >= few + turn:
-        number -= turn
-    return number
-
-
-def state_by_words(judge, tree):
-    """[9] word by word."""
-    below = [state_by_words(judge, child) for child in tree[1]]
-    letters, states, few, turn, table, good = judge
-    row = tuple(class_by_words(below.count(state), few, turn) for state in range(states))
-    return table[tree[0], row]
 
 
 def parts_by_words(tree):
