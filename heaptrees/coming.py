@@ -39,7 +39,7 @@ def _next_least_row(judge, sizes):
     rows = [
         (_least_size(classes, sizes), letter, classes, state)
         for (letter, classes), state in judge[4].items()
-        if state not in sizes and _are_only_of(classes, sizes)
+        if state not in sizes and are_only_of(classes, sizes)
     ]
     return min(rows, default=None)
 
@@ -50,7 +50,7 @@ def _least_size(classes, sizes):
     return 1 + sum([many * sizes[state] for state, many in enumerate(classes) if many > 0])
 
 
-def _are_only_of(classes, states):
+def are_only_of(classes, states):
     """Whether the classes are 0 of all other states."""
     return all([many == 0 or state in states for state, many in enumerate(classes)])
 
@@ -73,5 +73,5 @@ def none_shows(judge, paper):
     return all([
         state in paper
         for (_, classes), state in judge[4].items()
-        if _are_only_of(classes, paper)
+        if are_only_of(classes, paper)
     ])

@@ -98,10 +98,23 @@ def table_made(letters, states, few, turn, state_at):
     return {(letter, row): state_at(letter, row) for letter in letters for row in rows}
 
 
+def classes_with(judge, row, state):
+    """The classes behind one child more of the state."""
+    number = class_of(row[state] + 1, judge[2], judge[3])
+    return (*row[:state], number, *row[state + 1:])
+
+
 def state_by_numbers(judge, letter, numbers):
     """The state of a part with this letter, from how many of its children have each state."""
     row = [class_of(number, judge[2], judge[3]) for number in numbers]
     return judge[4][(letter, tuple(row))]
+
+
+def check_letters(parts, letters):
+    """Refuse with NoLetter parts of which one has a letter that is none of these."""
+    for letter, _ in parts:
+        if letter not in letters:
+            raise NoLetter("the tree has a letter of which no state is told")
 
 
 def states_upward(tree, letters, states, state_at):
@@ -110,9 +123,7 @@ def states_upward(tree, letters, states, state_at):
     A part's is state_at(letter, how many of its children have each state); or NoTree, NoLetter.
     """
     parts = parts_upward(tree)
-    for letter, _ in parts:
-        if letter not in letters:
-            raise NoLetter("the tree has a letter of which no state is told")
+    check_letters(parts, letters)
     told = []
     waiting = []
     for letter, children in parts:

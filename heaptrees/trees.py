@@ -50,6 +50,23 @@ def size_of(tree):
     return len(parts_upward(tree))
 
 
+def copied_tree(tree):
+    """The tree with its children as they stand, each list of them a new one; or NoTree."""
+    waiting = []
+    for letter, children in parts_upward(tree):
+        first = len(waiting) - len(children)
+        below = waiting[first:]
+        del waiting[first:]
+        waiting.append((letter, below))
+    return waiting[0]
+
+
+def check_surrounding(thing):
+    """Refuse with NoTree what is no surrounding, each of whose tuples has the form of a tree."""
+    if not isinstance(thing, list) or not all([is_tree(row) for row in thing]):
+        raise NoTree("what is handed in is no surrounding")
+
+
 def depth_of(tree):
     """1 for a tree without children, else one more than the greatest depth of a child."""
     check_tree(tree)

@@ -103,6 +103,85 @@ def state_by_words(judge, tree):
     return table[tree[0], row]
 
 
+def row_behind(judge, row, state):
+    """The classes behind one child more of the state, number by number."""
+    return tuple(
+        class_by_words(number + (place == state), judge[2], judge[3]) for place, number in enumerate(row)
+    )
+
+
+def coming_by_words(judge):
+    """The states that come, each of children whose states come."""
+    letters, states, few, turn, table, good = judge
+    coming = set()
+    while True:
+        found = {
+            table[letter, row]
+            for letter, row in product(letters, rows_of(judge, coming))
+        }
+        if found <= coming:
+            return sorted(coming)
+        coming |= found
+
+
+def rows_of(judge, coming):
+    """Each tuple of classes that heaps of trees with these states have."""
+    classes = range(judge[2] + judge[3])
+    return list(product(*[classes if state in coming else [0] for state in range(judge[1])]))
+
+
+def parted_by_words(judge):
+    """From each pair of unlike states that a surrounding parts to the fewest tuples of one."""
+    coming = coming_by_words(judge)
+    pairs = [pair for pair in product(coming, repeat=2) if pair[0] != pair[1]]
+    parted = {pair: 0 for pair in pairs if (pair[0] in judge[5]) != (pair[1] in judge[5])}
+    behind = {
+        state: [
+            judge[4][letter, row_behind(judge, row, state)] for letter, row in product(judge[0], rows_of(judge, coming))
+        ]
+        for state in coming
+    }
+    many = 0
+    while True:
+        many += 1
+        found = {
+            (p, q): many
+            for p, q in pairs
+            if (p, q) not in parted and any(pair in parted for pair in zip(behind[p], behind[q]))
+        }
+        if not found:
+            return parted
+        parted.update(found)
+
+
+def groups_by_words(judge):
+    """[17], [18], [20]: the groups of alike states among those that come."""
+    parted = parted_by_words(judge)
+    groups = []
+    for state in coming_by_words(judge):
+        alike = [group for group in groups if (group[0], state) not in parted]
+        if alike:
+            alike[0].append(state)
+        else:
+            groups.append([state])
+    return groups
+
+
+def shuffled(seed, tree):
+    """The tree with the children of each part in any order, the same for each seed."""
+    chance = Random(seed)
+    children = [shuffled(seed + place + 1, child) for place, child in enumerate(tree[1])]
+    chance.shuffle(children)
+    return (tree[0], children)
+
+
+def grown_otherwise(seed, judge):
+    """The judge with a table that is equal but grew in another order."""
+    keys = list(judge[4])
+    Random(seed).shuffle(keys)
+    return changed(judge, 4, {key: judge[4][key] for key in keys})
+
+
 def holders_within(thing):
     """Every list and dict within the thing, once for each place where it stands."""
     found = []

@@ -29,6 +29,17 @@ INTERFACE = {
         "states_that_come": ["judge"], "least_trees": ["judge"], "none_paper": ["judge"],
         "none_shows": ["judge", "paper"],
     },
+    "within": {
+        "within_told": ["one", "other"], "within_shows": ["one", "other", "paper"],
+        "same_judges": ["one", "other"],
+    },
+    "leastjudge": {
+        "put_into": ["surrounding", "tree"], "least_judge": ["judge"], "renamed": ["one", "other"],
+    },
+    "apart": {
+        "parting_surrounding": ["judge", "p", "q"], "state_behind": ["judge", "surrounding", "p"],
+        "alike_paper": ["judge"], "alike_shows": ["judge", "paper"],
+    },
 }
 
 LIBRARY = {"heapq", "math", "itertools", "collections"}
