@@ -2,7 +2,7 @@
 
 from heaptrees.coming import are_only_of, least_trees, states_that_come
 from heaptrees.errors import NoNumber
-from heaptrees.judges import are_rising_states, check_letters, classes_with, state_by_numbers, state_of
+from heaptrees.judges import are_rising_states, check_letters, classes_with, state_above, state_of
 from heaptrees.kinds import is_whole
 from heaptrees.trees import check_surrounding, copied_tree
 
@@ -73,8 +73,7 @@ def state_behind(judge, surrounding, p):
     rows = [(letter, [state_of(judge, child) for child in children]) for letter, children in surrounding]
     state = p
     for letter, below in rows:
-        below.append(state)
-        state = state_by_numbers(judge, letter, [below.count(one) for one in range(judge[1])])
+        state = state_above(judge, letter, [*below, state])
     return state
 
 

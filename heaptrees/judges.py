@@ -2,7 +2,7 @@
 
 from heaptrees.errors import NoLetter, TooMany
 from heaptrees.kinds import is_letter, is_whole_within
-from heaptrees.trees import parts_upward
+from heaptrees.trees import built_upward, parts_upward
 
 MOST_STATES = 6
 MOST_FEW = 4
@@ -88,26 +88,48 @@ def class_rows(states, classes):
     return rows
 
 
+def keys_due(letters, states, classes):
+    """The tuples (letter, classes) that a table has, in order."""
+    rows = class_rows(states, classes)
+    return [(letter, row) for letter in letters for row in rows]
+
+
 def table_made(letters, states, few, turn, state_at):
     """A table that tells state_at(letter, classes); TooMany where it or the turn is too great."""
     if turn > MOST_TURN:
         raise TooMany("the judge would have a turn of more than four")
     if tuples_due(letters, states, few + turn) > MOST_TUPLES:
         raise TooMany("the judge's table would have more than six hundred tuples")
-    rows = class_rows(states, few + turn)
-    return {(letter, row): state_at(letter, row) for letter in letters for row in rows}
+    keys = keys_due(letters, states, few + turn)
+    return {(letter, row): state_at(letter, row) for letter, row in keys}
+
+
+def copied_judge(judge):
+    """The judge with a table and a list of good states of its own."""
+    letters, states, few, turn, table, good = judge
+    return (letters, states, few, turn, {key: state for key, state in table.items()}, list(good))
 
 
 def classes_with(judge, row, state):
     """The classes behind one child more of the state."""
     number = class_of(row[state] + 1, judge[2], judge[3])
-    return (*row[:state], number, *row[state + 1:])
+    return row[:state] + (number,) + row[state + 1:]
 
 
 def state_by_numbers(judge, letter, numbers):
     """The state of a part with this letter, from how many of its children have each state."""
     row = [class_of(number, judge[2], judge[3]) for number in numbers]
     return judge[4][(letter, tuple(row))]
+
+
+def state_above(judge, letter, below):
+    """The state of a part with this letter, from the states of its children."""
+    return state_by_numbers(judge, letter, _numbers(below, judge[1]))
+
+
+def _numbers(below, states):
+    """How many of the children's states are each state."""
+    return [below.count(state) for state in range(states)]
 
 
 def check_letters(parts, letters):
@@ -122,17 +144,14 @@ def states_upward(tree, letters, states, state_at):
 
     A part's is state_at(letter, how many of its children have each state); or NoTree, NoLetter.
     """
-    parts = parts_upward(tree)
-    check_letters(parts, letters)
+    check_letters(parts_upward(tree), letters)
     told = []
-    waiting = []
-    for letter, children in parts:
-        first = len(waiting) - len(children)
-        below = waiting[first:]
-        del waiting[first:]
-        state = state_at(letter, [below.count(one) for one in range(states)])
-        waiting.append(state)
-        told.append(state)
+
+    def next_state(letter, below):
+        told.append(state_at(letter, _numbers(below, states)))
+        return told[-1]
+
+    built_upward(tree, next_state)
     return told
 
 

@@ -50,15 +50,20 @@ def size_of(tree):
     return len(parts_upward(tree))
 
 
-def copied_tree(tree):
-    """The tree with its children as they stand, each list of them a new one; or NoTree."""
+def built_upward(tree, made):
+    """What made(letter, what it made of each child) makes of the tree, from the leaves up; or NoTree."""
     waiting = []
     for letter, children in parts_upward(tree):
         first = len(waiting) - len(children)
         below = waiting[first:]
         del waiting[first:]
-        waiting.append((letter, below))
+        waiting.append(made(letter, below))
     return waiting[0]
+
+
+def copied_tree(tree):
+    """The tree with its children as they stand, each list of them a new one; or NoTree."""
+    return built_upward(tree, lambda letter, below: (letter, below))
 
 
 def check_surrounding(thing):
@@ -80,22 +85,22 @@ def depth_of(tree):
 
 def _written_and_told(tree):
     """A tuple of the tree's writing and its told form."""
-    waiting = []
-    for letter, children in parts_upward(tree):
-        first = len(waiting) - len(children)
-        # By the writings alone: where two are equal, Python would compare the trees, call in call.
-        rows = sorted(waiting[first:], key=lambda row: row[0])
-        del waiting[first:]
-        waiting.append(_joined(letter, rows))
-    return waiting[0]
+    return built_upward(tree, _joined)
 
 
-def _joined(letter, rows):
-    """The writing and told form of a part, from those of its children in their order."""
-    if not rows:
-        return (letter, (letter, []))
-    written = "".join([row[0] for row in rows])
-    return (f"{letter}({written})", (letter, [row[1] for row in rows]))
+def _joined(letter, below):
+    """The writing and told form of a part, from those of its children."""
+    # By the writings alone: where two are equal, Python would compare the trees, call in call.
+    rows = sorted(below, key=lambda row: row[0])
+    return (written_part(letter, [row[0] for row in rows]), (letter, [row[1] for row in rows]))
+
+
+def written_part(letter, texts):
+    """The writing of a part, from those of its children, sorted."""
+    if not texts:
+        return letter
+    written = "".join(texts)
+    return f"{letter}({written})"
 
 
 def told_form(tree):

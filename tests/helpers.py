@@ -1,5 +1,6 @@
 """What several test files use: trees and judges to ask about, and what is none."""
 
+from copy import deepcopy
 from itertools import product
 from random import Random
 
@@ -208,6 +209,19 @@ def share_any(told, given):
     """Whether a list or dict within what was told is one within what was handed in."""
     ids = {id(one) for one in holders_within(given)}
     return any(id(one) in ids for one in holders_within(told))
+
+
+def check_told_anew(case, ask, given):
+    """[2]: what is asked twice is told twice the same, as the asker's own, with nothing of what was given."""
+    told = [ask(), ask()]
+    before = deepcopy(told[0])
+    case.assertTrue(all_unlike(*told))
+    case.assertFalse(share_any(told, given))
+    for holder in holders_within(told[0]):
+        holder.clear()
+    # No assertEqual of what may be long: telling where two such differ takes it minutes.
+    case.assertTrue(told[1] == before)
+    case.assertTrue(ask() == before)
 
 
 # Things of other kinds that are no tree, no letter and no judge.

@@ -5,9 +5,9 @@ import unittest
 from itertools import product
 
 from helpers import (
-    NO_TREES, OTHER_KINDS, all_unlike, chance_judge, changed, coming_by_words, grown_otherwise,
-    groups_by_words, holders_within, judge_by, leaf, nested, parted_by_words, row_behind, row_of, rows_of, share_any,
-    shuffled, state_by_words, told_trees,
+    NO_TREES, OTHER_KINDS, chance_judge, changed, check_told_anew, coming_by_words,
+    groups_by_words, grown_otherwise, judge_by, leaf, nested, parted_by_words, row_behind, row_of,
+    rows_of, shuffled, state_by_words, told_trees,
 )
 from heaptrees.apart import alike_paper, alike_shows, parting_surrounding, state_behind
 from heaptrees.coming import least_trees
@@ -399,14 +399,7 @@ class OwnThings(unittest.TestCase):
     def test_what_is_told_is_new(self):
         for judge, p, q in [(DEPTHS, 0, 1), (DEPTHS, 3, 2), (MANY, 0, 1), (FOURS, 0, 1), (NO_B, 1, 2), (ODDLY, 3, 5)]:
             for ask in [lambda: parting_surrounding(judge, p, q), lambda: alike_paper(judge)]:
-                told = [ask(), ask()]
-                before = copy.deepcopy(told[0])
-                self.assertTrue(all_unlike(*told))
-                self.assertFalse(share_any(told, judge))
-                for holder in holders_within(told[0]):
-                    holder.clear()
-                self.assertEqual(told[1], before)
-                self.assertEqual(ask(), before)
+                check_told_anew(self, ask, judge)
 
     def test_told_things_are_of_the_kinds_told(self):
         told = parting_surrounding(MANY, 0, 1)

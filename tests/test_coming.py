@@ -5,8 +5,8 @@ import unittest
 from itertools import combinations, permutations, product
 
 from helpers import (
-    OTHER_KINDS, all_unlike, chance_judge, changed, class_by_words, holders_within, judge_by, leaf,
-    row_of, share_any, state_by_words, told_trees, written,
+    OTHER_KINDS, chance_judge, changed, check_told_anew, class_by_words, judge_by, leaf, row_of,
+    state_by_words, told_trees, written,
 )
 from heaptrees.coming import least_trees, none_paper, none_shows, states_that_come
 from heaptrees.joining import judges_joined, turned_judge
@@ -309,14 +309,7 @@ class OwnThings(unittest.TestCase):
     def test_what_is_told_is_new(self):
         for judge in [CHAIN, SEVENS, STAIRS, MANY, ALONE, changed(MANY, 5, [])]:
             for function in [states_that_come, least_trees, none_paper]:
-                told = [function(judge), function(judge)]
-                before = copy.deepcopy(told[0])
-                self.assertTrue(all_unlike(*told))
-                self.assertFalse(share_any(told, judge))
-                for holder in holders_within(told[0]):
-                    holder.clear()
-                self.assertEqual(told[1], before)
-                self.assertEqual(function(judge), before)
+                check_told_anew(self, lambda: function(judge), judge)
 
     def test_a_tree_within_another_one_is_told_as_two(self):
         told = least_trees(STAIRS)

@@ -40,6 +40,19 @@ INTERFACE = {
         "parting_surrounding": ["judge", "p", "q"], "state_behind": ["judge", "surrounding", "p"],
         "alike_paper": ["judge"], "alike_shows": ["judge", "paper"],
     },
+    "countedtrees": {
+        "count_of": ["judge", "size", "state"], "count_let_by": ["judge", "size"],
+        "trees_let_by": ["judge", "size"],
+    },
+    "texts": {"read_tree": ["text"], "show_judge": ["judge"], "read_judge": ["text"]},
+}
+
+CLASSES = {
+    ("watch", "Watch"): {
+        "__init__": ["judge", "tree"], "put": ["names", "child"], "take": ["names"], "tree": [],
+        "state_at": ["names"], "good": [],
+    },
+    ("desk", "Desk"): {"__init__": [], "say": ["row"], "names": []},
 }
 
 LIBRARY = {"heapq", "math", "itertools", "collections"}
@@ -58,6 +71,17 @@ class Interface(unittest.TestCase):
                     function = getattr(module, name)
                     self.assertEqual(function.__module__, module.__name__)
                     self.assertEqual(list(inspect.signature(function).parameters), arguments)
+
+    def test_classes_and_their_methods_in_the_files_that_list_them(self):
+        for (file, name), methods in CLASSES.items():
+            module = importlib.import_module(f"heaptrees.{file}")
+            found = getattr(module, name)
+            self.assertEqual(found.__module__, module.__name__)
+            for method, arguments in methods.items():
+                with self.subTest(file=file, method=method):
+                    # In the body of the class itself.
+                    parameters = list(inspect.signature(vars(found)[method]).parameters)
+                    self.assertEqual(parameters, ["self", *arguments])
 
 
 class Form(unittest.TestCase):

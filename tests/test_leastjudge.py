@@ -5,8 +5,8 @@ import unittest
 from itertools import permutations, product
 
 from helpers import (
-    NO_TREES, OTHER_KINDS, all_unlike, chance_judge, changed, coming_by_words, grown_otherwise,
-    groups_by_words, holders_within, judge_by, leaf, parted_by_words, row_of, share_any, shuffled,
+    NO_TREES, OTHER_KINDS, chance_judge, changed, check_told_anew, coming_by_words,
+    groups_by_words, grown_otherwise, judge_by, leaf, parted_by_words, row_of, shuffled,
     state_by_words, told_trees, trees_up_to,
 )
 from heaptrees.errors import HeapError, NoFit, NoTree
@@ -324,26 +324,12 @@ class OwnThings(unittest.TestCase):
         children = [leaf("c"), ("b", [leaf("d")])]
         tree = ("d", children)
         for surrounding in [[], [("a", children)], [("a", children), ("a", children), tree, tree]]:
-            told = [put_into(surrounding, tree), put_into(surrounding, tree)]
-            before = copy.deepcopy(told[0])
-            self.assertTrue(all_unlike(*told))
-            self.assertFalse(share_any(told, (surrounding, tree)))
-            for holder in holders_within(told[0]):
-                holder.clear()
-            self.assertEqual(told[1], before)
-            self.assertEqual(put_into(surrounding, tree), before)
+            check_told_anew(self, lambda: put_into(surrounding, tree), (surrounding, tree))
 
     def test_judges_and_lists_told_are_new(self):
         for judge in [*NAMED, *CHANCE[::5]]:
             for ask in [lambda: least_judge(judge), lambda: renamed(judge, judge)]:
-                told = [ask(), ask()]
-                before = copy.deepcopy(told[0])
-                self.assertTrue(all_unlike(*told))
-                self.assertFalse(share_any(told, judge))
-                for holder in holders_within(told[0]):
-                    holder.clear()
-                self.assertEqual(told[1], before)
-                self.assertEqual(ask(), before)
+                check_told_anew(self, ask, judge)
 
     def test_told_things_are_of_the_kinds_told(self):
         self.assertEqual([type(thing) for thing in least_judge(NO_B)], [str, int, int, int, dict, list])

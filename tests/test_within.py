@@ -6,8 +6,8 @@ from itertools import combinations, product
 from math import lcm
 
 from helpers import (
-    OTHER_KINDS, all_unlike, chance_judge, changed, class_by_words, grown_otherwise, holders_within,
-    judge_by, leaf, row_behind, row_of, share_any, shuffled, state_by_words, told_trees, written,
+    OTHER_KINDS, chance_judge, changed, check_told_anew, class_by_words, grown_otherwise, judge_by,
+    leaf, row_behind, row_of, shuffled, state_by_words, told_trees, written,
 )
 from heaptrees.errors import HeapError, NoFit
 from heaptrees.joining import judges_joined, turned_judge
@@ -427,14 +427,7 @@ class OwnThings(unittest.TestCase):
             (counter(1, 4, 3, [1]), counter(1, 3, 2, [0])), *[(one, other) for _, one, other in GREAT_TREES],
         ]
         for one, other in pairs:
-            told = [within_told(one, other), within_told(one, other)]
-            before = copy.deepcopy(told[0])
-            self.assertTrue(all_unlike(*told))
-            self.assertFalse(share_any(told, (one, other)))
-            for holder in holders_within(told[0]):
-                holder.clear()
-            self.assertTrue(told[1] == before)
-            self.assertTrue(within_told(one, other) == before)
+            check_told_anew(self, lambda: within_told(one, other), (one, other))
 
     def test_one_child_twice_is_two_lists(self):
         told = within_told(counter(1, 4, 3, [1]), counter(1, 3, 2, [0]))[1]
