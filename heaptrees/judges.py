@@ -15,11 +15,18 @@ def is_judge(thing):
     if not isinstance(thing, tuple) or len(thing) != 6:
         return False
     letters, states, few, turn, table, good = thing
+    if not may_have_table(letters, states, few, turn):
+        return False
+    return _is_table(table, letters, states, few + turn) and are_rising_states(good, states)
+
+
+def may_have_table(letters, states, few, turn):
+    """Whether things of any kind are letters and numbers of a judge, with not too many tuples."""
     if not are_letters(letters) or not is_whole_within(states, 1, MOST_STATES):
         return False
     if not is_whole_within(few, 0, MOST_FEW) or not is_whole_within(turn, 1, MOST_TURN):
         return False
-    return _is_table(table, letters, states, few + turn) and are_rising_states(good, states)
+    return tuples_due(letters, states, few + turn) <= MOST_TUPLES
 
 
 def are_letters(thing):
@@ -50,9 +57,8 @@ def tuples_due(letters, states, classes):
 
 
 def _is_table(thing, letters, states, classes):
-    """Whether the thing is a table that has just the tuples due, and they are not too many."""
-    due = tuples_due(letters, states, classes)
-    if not isinstance(thing, dict) or len(thing) != due or due > MOST_TUPLES:
+    """Whether the thing is a table that has just the tuples due."""
+    if not isinstance(thing, dict) or len(thing) != tuples_due(letters, states, classes):
         return False
     # Unlike keys that are each one of those due, and as many as are due, are all of them.
     for key, state in thing.items():

@@ -1,7 +1,7 @@
 """Texts: judges written, and trees and judges read back from their writings."""
 
 from heaptrees.errors import NoText
-from heaptrees.judges import is_judge, keys_due, tuples_due
+from heaptrees.judges import is_judge, keys_due, may_have_table
 from heaptrees.kinds import is_letter
 from heaptrees.trees import written_tree
 
@@ -53,12 +53,15 @@ def _judge_read(words):
     """What stands in the words of a judge's writing: a judge, if they are such; or None."""
     letters = words[0]
     states, few, turn = [_figure(word) for word in words[1:4]]
-    good = [] if words[4] == "-" else [_figure(word) for word in words[4].split(",")]
-    # A table is made only of as many tuples as there are figures for them.
-    if tuples_due(letters, states, few + turn) != len(words[5]):
+    # The tuples of numbers that no judge has may be so many that they end the program.
+    if not may_have_table(letters, states, few, turn):
         return None
-    told = [_figure(sign) for sign in words[5]]
-    return (letters, states, few, turn, dict(zip(keys_due(letters, states, few + turn), told)), good)
+    keys = keys_due(letters, states, few + turn)
+    if len(keys) != len(words[5]):
+        return None
+    good = [] if words[4] == "-" else [_figure(word) for word in words[4].split(",")]
+    table = dict(zip(keys, [_figure(sign) for sign in words[5]]))
+    return (letters, states, few, turn, table, good)
 
 
 def _figure(word):

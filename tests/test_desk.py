@@ -236,6 +236,8 @@ class Refused(Asked):
             "judge even ", "judge fresh ", "judge even  ", f"judge even  {text}", f"judge even {text} ", f"judge even {text}\n", "judge even none",
             f"judge even {text}0", f"judge even {text[:-1]}", "judge even judge even", "judge even a(b)",
             "judge even even", "judge even \n", "judge even \u00e4",
+            # No letters and no figures, but great numbers: a name that stands stays, a fresh one does not come to stand.
+            "judge even  6 4 4 - ", "judge fresh  6 4 4 - ", "judge even  9 9 9 - ", "judge fresh  9 9 9 0 ", "judge fresh  8 9 9 0,1 ",
         ]:
             self.refused(NoText, desk, row)
         for word in ("state", "good"):

@@ -1,6 +1,7 @@
 """[2], [3], [25]: trees and judges read back from their writings."""
 
 import copy
+import tracemalloc
 import unittest
 from itertools import product
 
@@ -183,6 +184,34 @@ class ReadJudge(unittest.TestCase):
         for text in ["abc 6 4 4 0 " + "0" * 2980, "abcdefghijklmnopqrstuvwxyz 6 4 4 - 0", "a 9 9 9 0 " + "0" * 2900]:
             with self.assertRaises(NoText):
                 read_judge(text)
+
+    def test_what_writes_none_is_refused_without_a_great_table(self):
+        # From small numbers to great ones: where memory is taken, the first failure comes ahead of what ends the program.
+        short = [*product("123456", ["-", "0"]), *product("23456", ["0,1"])]
+        tracemalloc.start()
+        self.addCleanup(tracemalloc.stop)
+        for states, few, turn in sorted(product(["", *"0123456789", "-", "-1", "99"], repeat=3), key=lambda row: (len("".join(row)), row)):
+            for letters, good, figures in product(["", "-", "A", "aa", "b"], ["", "-", "0", "0,1"], ["", "0"]):
+                text = " ".join([letters, states, few, turn, good, figures])
+                tracemalloc.reset_peak()
+                before = tracemalloc.get_traced_memory()[0]
+                try:
+                    told = read_judge(text)
+                except NoText:
+                    told = None
+                # Few judges have so short a writing: those of one letter and one class.
+                due = [letters, few, turn, figures] == ["b", "0", "1", "0"] and (states, good) in short
+                self.assertEqual(told is not None, due, text)
+                self.assertLess(tracemalloc.get_traced_memory()[1] - before, 500000, text)
+
+    def test_great_numbers_and_empty_words(self):
+        for text in [
+            " 6 4 4 - ", " 9 9 9 - ", " 9 0 9 - ", " 9 9 9 0 ", " 8 9 9 0,1 ", " 9 9 0 - ", " 9 9 9  ", " 9 9 9 - 0", " 6 4 4 0 0", "a 9 9 9 - ",
+            "ab 6 4 4 0 ", "A 9 9 9 - ", "  9 9 9 - ", " 9 9 9 -  ", " 9 9 - ", " 9 9 9 -",
+        ]:
+            with self.subTest(text):
+                with self.assertRaises(NoText):
+                    read_judge(text)
 
     def test_each_sign_changed_left_out_or_put_in(self):
         for judge in [NO_B, EVEN, changed(NO_B, 5, []), changed(NO_B, 5, [0, 1]), judge_by("ac", 3, 0, 1, lambda letter, row: 2, [0, 2])]:
